@@ -1,0 +1,1 @@
+"""A world model: containment, light, sight and reach."""
