@@ -1,7 +1,7 @@
 """The arguments of each call, their ranges, and the errors common to all calls."""
 
 from sightnest.refusals import NO_SUCH_OBJECT, NOT_AN_ACTOR, OUT_OF_RANGE
-from sightnest.world import ACTOR
+from sightnest.world import ACTOR, MOST_OBJECTS
 
 # The place of a row is the number of its call.
 ARGUMENTS = (
@@ -15,9 +15,23 @@ ARGUMENTS = (
     ("v", "x"),
     ("v", "n", "flag"),
     ("n",),
+    ("h",),
+    ("v", "x"),
+    ("v", "x", "answer", "p", "q"),
+    ("h",),
+    ("v",),
+    ("v",),
+    ("h",),
+    ("a", "b"),
+    ("n",),
+    (),
 )
 
 OBJECTS = ("n", "h", "v", "x", "a", "b")
+
+# These arguments are lists, each handed in behind its length.
+LISTS = ("p", "q")
+MOST_IN_LIST = 60
 
 RANGES = {
     "n": (1, 60),
@@ -34,20 +48,35 @@ RANGES = {
     "flag": (0, 1),
     "property": (3, 6),
     "kind": (0, 3),
+    "answer": (0, 1),
 }
 
 
-def argument_count(number):
-    """How many arguments the call with this number has."""
-    return len(ARGUMENTS[number])
+def next_call(calls, at):
+    """The arguments of the call that begins at this place, and the place where the next one begins."""
+    given = []
+    end = at + 1
+    for name in ARGUMENTS[calls[at]]:
+        if name in LISTS:
+            start = end + 1
+            end = start + calls[end]
+            given.append(calls[start:end])
+        else:
+            given.append(calls[end])
+            end = end + 1
+    return (given, end)
+
+
+def is_outside(name, value):
+    """Whether the value is outside the range of the argument with this name."""
+    if name in LISTS:
+        return len(value) > MOST_IN_LIST or any([n < 1 or n > MOST_OBJECTS for n in value])
+    return value < RANGES[name][0] or value > RANGES[name][1]
 
 
 def leaves_range(number, given):
     """Whether an argument is outside its range."""
-    for name, value in zip(ARGUMENTS[number], given):
-        if value < RANGES[name][0] or value > RANGES[name][1]:
-            return True
-    return False
+    return any([is_outside(name, value) for name, value in zip(ARGUMENTS[number], given)])
 
 
 def names_no_object(world, number, given):

@@ -1,12 +1,13 @@
 """The interface: a list of calls, and the list of their answers."""
 
-from sightnest.arguments import argument_count, common_error
+from sightnest.arguments import common_error, next_call
 from sightnest.changes import change
-from sightnest.questions import locate
+from sightnest.questions import tell
 from sightnest.refusals import refused
 from sightnest.world import World
 
-LOCATE = 9
+# The calls from this one on only ask.
+FIRST_QUESTION = 9
 
 
 def answer(world, number, given):
@@ -14,8 +15,8 @@ def answer(world, number, given):
     code = common_error(world, number, given)
     if code != 0:
         return refused(code)
-    if number == LOCATE:
-        return locate(world, given[0])
+    if number >= FIRST_QUESTION:
+        return tell(world, number, given)
     return change(world, number, given)
 
 
@@ -25,9 +26,9 @@ def answers(calls):
     told = []
     at = 0
     while at < len(calls):
-        end = at + 1 + argument_count(calls[at])
-        answered = answer(world, calls[at], calls[at + 1:end])
+        taken = next_call(calls, at)
+        answered = answer(world, calls[at], taken[0])
         told.append(len(answered))
         told.extend(answered)
-        at = end
+        at = taken[1]
     return told

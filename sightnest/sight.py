@@ -1,6 +1,7 @@
 """What is lit, and what an actor sees, carries and reaches."""
 
-from sightnest.spaces import HANDS, LIGHT, SIGHT, lying_space, meeting_spaces, spaces_from
+from sightnest.paths import spaces_from
+from sightnest.spaces import HANDS, LIGHT, SIGHT, lying_space, meeting_spaces
 from sightnest.world import IN, LUMINOUS
 
 
@@ -16,15 +17,25 @@ def lit_spaces(world):
 
 
 def spaces_before(world, v, ray):
-    """All spaces to which a path of the ray leads from the space in which v lies."""
+    """All spaces to which a path of the ray leads from the space in which v lies, ordered by levels."""
     return spaces_from(world, [lying_space(world, v)], ray)
 
 
-def sees(world, v, x):
-    """Whether the actor v sees x."""
+def lit_spaces_before(world, v):
+    """The lit spaces to which a path of sight leads from the space in which v lies."""
     lit = lit_spaces(world)
-    before = spaces_before(world, v, SIGHT)
-    return any([space in lit and space in before for space in meeting_spaces(world, x)])
+    return [space for space in spaces_before(world, v, SIGHT) if space in lit]
+
+
+def meetings(world, x, spaces):
+    """Those of the spaces in which x is met: first the one in which it lies, then its own."""
+    return [space for space in meeting_spaces(world, x) if space in spaces]
+
+
+def visible_objects(world, v):
+    """All objects that the actor v sees, in ascending order."""
+    visible = lit_spaces_before(world, v)
+    return [x for x in world.numbers() if meetings(world, x, visible)]
 
 
 def carries(world, v, x):
@@ -37,12 +48,14 @@ def carries(world, v, x):
     return True
 
 
-def touches(world, v, x):
-    """Whether a path of hands leads from the space in which v lies to one in which x is met."""
-    before = spaces_before(world, v, HANDS)
-    return any([space in before for space in meeting_spaces(world, x)])
+def reachable_of(world, v, numbers):
+    """Those of the objects with these numbers that the actor v reaches."""
+    near = spaces_before(world, v, HANDS)
+    visible = lit_spaces_before(world, v)
+    touched = [x for x in numbers if meetings(world, x, near)]
+    return [x for x in touched if meetings(world, x, visible) or carries(world, v, x)]
 
 
 def reaches(world, v, x):
     """Whether the actor v reaches x."""
-    return touches(world, v, x) and (carries(world, v, x) or sees(world, v, x))
+    return x in reachable_of(world, v, [x])

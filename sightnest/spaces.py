@@ -1,6 +1,6 @@
-"""Spaces, and the paths on which light, sight and hands pass between them."""
+"""Spaces, and the walls and windows through which light, sight and hands pass between them."""
 
-from sightnest.world import IN, OPENED, TRANSPARENT
+from sightnest.world import IN, MOST_OBJECTS, OPENED, TRANSPARENT
 
 LIGHT = 1
 SIGHT = 2
@@ -27,6 +27,16 @@ def meeting_spaces(world, n):
     return [lying_space(world, n)]
 
 
+def enclosing_spaces(world, n):
+    """The space in which n lies, the one in which that container lies, and so on up to a place."""
+    space = lying_space(world, n)
+    found = [space]
+    while not world.is_place(space):
+        space = lying_space(world, space)
+        found.append(space)
+    return found
+
+
 def wall_passes(world, n, ray):
     """Whether light, sight or hands (the ray) pass the wall of the container n."""
     if world.has(n, OPENED):
@@ -47,8 +57,11 @@ def window_passes_back(window, ray):
 
 
 def link_table(world, ray):
-    """For each number the spaces, in ascending order, to which it is linked for the ray."""
-    table = [[] for n in range(len(world.things) + 1)]
+    """For each number up to 60 the spaces to which it is linked for the ray.
+
+    A number that is not a space, or not even an object, has an empty row.
+    """
+    table = [[] for n in range(MOST_OBJECTS + 1)]
     for n in world.numbers():
         if world.is_box(n) and wall_passes(world, n, ray):
             outside = lying_space(world, n)
@@ -59,25 +72,4 @@ def link_table(world, ray):
             table[window.first].append(window.second)
         if window_passes_back(window, ray):
             table[window.second].append(window.first)
-    return [sorted(row) for row in table]
-
-
-def next_level(links, level, found):
-    """The spaces to which the level is linked and which are not found yet, in ascending order."""
-    linked = []
-    for space in level:
-        for other in links[space]:
-            if other not in found and other not in linked:
-                linked.append(other)
-    return sorted(linked)
-
-
-def spaces_from(world, sources, ray):
-    """All spaces to which a path of the ray leads from the sources, ordered by levels."""
-    links = link_table(world, ray)
-    found = list(sources)
-    level = list(sources)
-    while level:
-        level = next_level(links, level, found)
-        found.extend(level)
-    return found
+    return table

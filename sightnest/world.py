@@ -90,6 +90,10 @@ class World:
         """Whether n is a container and not a place: such a one has a wall."""
         return self.has(n, CONTAINER) and not self.is_place(n)
 
+    def has_space(self, n):
+        """Whether n is a place or a container: only these have a space."""
+        return self.is_place(n) or self.has(n, CONTAINER)
+
     def ancestors(self, n):
         """The holder of n, the holder of its holder, and so on up to the place."""
         found = []
@@ -106,7 +110,7 @@ class World:
     def can_hold(self, h, relation):
         """Whether h can be a holder in this relation."""
         if relation == IN:
-            return self.is_place(h) or self.has(h, CONTAINER)
+            return self.has_space(h)
         if relation == ON:
             return self.has(h, SUPPORTER)
         if relation == HELD or relation == WORN:

@@ -62,6 +62,46 @@ def locate(n):
     return [9, n]
 
 
+def list_contents(h):
+    return [10, h]
+
+
+def can_see(v, x):
+    return [11, v, x]
+
+
+def check_proof(v, x, answer, p, q):
+    return [12, v, x, answer, len(p), *p, len(q), *q]
+
+
+def is_lit(h):
+    return [13, h]
+
+
+def list_visible(v):
+    return [14, v]
+
+
+def list_reachable(v):
+    return [15, v]
+
+
+def get_load(h):
+    return [16, h]
+
+
+def compare_spaces(a, b):
+    return [17, a, b]
+
+
+def get_properties(n):
+    return [18, n]
+
+
+def list_windows():
+    return [19]
+
+
 def flat(calls):
     """The calls one behind another, as they are handed in."""
     return [number for call in calls for number in call]
@@ -83,11 +123,41 @@ def ask(*calls):
     return split(answers(flat(calls)))
 
 
-def look(count):
-    """Calls whose answers tell the places, walls, holders and loads of a world of so many objects."""
+def ask_on(world, questions):
+    """The answers of the questions on this world, which they don't change: asked in lists of at most 400 calls."""
+    room = 400 - len(world)
+    parts = [questions[at:at + room] for at in range(0, len(questions), room)]
+    return [answer for part in parts for answer in ask(*world, *part)[len(world):]]
+
+
+def behind_length(rows):
+    """The rows one behind another, each behind its length."""
+    return [number for row in rows for number in [len(row)] + list(row)]
+
+
+def seen(p, q):
+    """The answer of can_see with this positive proof."""
+    return [0, 1] + behind_length([p, q])
+
+
+def unseen(p, q):
+    """The answer of can_see with this negative proof."""
+    return [0, 0] + behind_length([p, q])
+
+
+def state(count):
+    """Calls whose answers tell all that a world of so many objects keeps."""
     numbers = range(1, count + 1)
-    calls = [locate(n) for n in numbers]
+    calls = [ask_for(n) for n in numbers for ask_for in (locate, get_properties, get_load, list_contents)]
+    return calls + [list_windows()]
+
+
+def look(count):
+    """Calls whose answers tell what a world of so many objects keeps, and how it goes on with it."""
+    numbers = range(1, count + 1)
+    calls = state(count)
     if count <= 9:
+        calls += [ask_for(v) for v in numbers for ask_for in (list_visible, list_reachable)]
         calls += [open_or_close(v, n, 0) for v in numbers for n in numbers]
         calls += [take(v, x) for v in numbers for x in numbers]
         calls += [locate(n) for n in numbers]

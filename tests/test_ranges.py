@@ -17,6 +17,17 @@ CALLS = {
     7: ([3, 4], [OBJECT, OBJECT]),
     8: ([3, 4, 1], [OBJECT, OBJECT, FLAG]),
     9: ([4], [OBJECT]),
+    10: ([3], [OBJECT]),
+    11: ([3, 4], [OBJECT, OBJECT]),
+    # Behind its first three arguments two empty lists.
+    12: ([3, 4, 0, 0, 0], [OBJECT, OBJECT, FLAG]),
+    13: ([1], [OBJECT]),
+    14: ([3], [OBJECT]),
+    15: ([3], [OBJECT]),
+    16: ([3], [OBJECT]),
+    17: ([4, 2], [OBJECT, OBJECT]),
+    18: ([4], [OBJECT]),
+    19: ([], []),
 }
 
 # Two lit places, an actor, and a hinged thing in its hands.
@@ -27,7 +38,10 @@ WORLD = [
     add_object(3, HELD, 8, 1, 0),
 ]
 
-VS = (5, 6, 7, 8)
+VS = (5, 6, 7, 8, 11, 12, 14, 15)
+
+# The calls that answer something before there is any object.
+FIRST = (0, 19)
 
 
 def with_argument(number, place, value):
@@ -86,7 +100,7 @@ class RangesTest(WorldTest):
 
     def test_nothing_exists_at_the_beginning(self):
         for number in CALLS:
-            if number != 0:
+            if number not in FIRST:
                 with self.subTest(call=number):
                     self.assertEqual(ask([number] + CALLS[number][0]), [[-2]])
 
@@ -124,6 +138,23 @@ class RangesTest(WorldTest):
             ([7, 1, 60], -2),
             ([8, 1, 4, 2], -1),
             ([8, 1, 5, 1], -2),
+            ([11, 1, 0], -1),
+            ([11, 1, 61], -1),
+            ([11, 1, 5], -2),
+            ([11, 5, 4], -2),
+            ([11, 1, 4], -3),
+            ([12, 1, 5, 2, 0, 0], -1),
+            ([12, 1, 5, 1, 1, 61, 0], -1),
+            ([12, 1, 5, 1, 0, 1, 0], -1),
+            ([12, 1, 5, 0, 0, 0], -2),
+            ([12, 1, 4, 0, 0, 0], -3),
+            ([13, 61], -1),
+            ([13, 5], -2),
+            ([13, 4], -9),
+            ([17, 5, 61], -1),
+            ([17, 0, 5], -1),
+            ([17, 5, 4], -2),
+            ([17, 4, 5], -2),
         ):
             with self.subTest(call=call):
                 self.refuses(expected, WORLD, call)

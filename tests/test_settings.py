@@ -1,14 +1,13 @@
-"""The calls set_property and set_window, and what light and hands do at walls and windows.
+"""The calls set_property and set_window, and what light, sight and hands do at walls and windows.
 
 What an actor reaches is asked by take: it reaches what it lies beside, if that is lit.
 """
 
-import importlib.util
 import unittest
 
 from asking import ACTOR, CONTAINER, FAR, HELD, HINGED, IN, LUMINOUS, ON, OPEN, PART, SUPPORTER, TRANSPARENT, WORN
-from asking import WorldTest, add_object, add_place, ask, locate, move_object, open_or_close, set_property, set_window
-from asking import take
+from asking import WorldTest, add_object, add_place, ask, can_see, get_properties, list_windows, locate, move_object
+from asking import open_or_close, set_property, set_window, take
 
 # A lit place, an actor, a closed box with a thing in it.
 BOX = [
@@ -76,6 +75,16 @@ class SetPropertyTest(WorldTest):
         self.does([0], world + [set_property(2, 4, 0)], open_or_close(2, 2, 1))
         self.does([-9], world + [set_property(2, 3, 0)], open_or_close(2, 2, 1))
         self.does([-10], world + [set_property(2, 3, 1)], open_or_close(2, 2, 1))
+
+    def test_each_property_has_its_own_value(self):
+        for number, value in ((3, HINGED), (4, OPEN), (5, TRANSPARENT), (6, LUMINOUS)):
+            for before in (0, 127, 7, 127 - value, value):
+                world = [add_place(0), add_object(1, IN, before, 3, 4)]
+                with self.subTest(number=number, before=before):
+                    told = ask(*world, set_property(2, number, 1), get_properties(2), set_property(2, number, 0),
+                               get_properties(2))
+                    self.assertEqual(told[3], [0, before | value, 3, 4])
+                    self.assertEqual(told[5], [0, before & ~value, 3, 4])
 
     def test_any_object_may_have_any_of_them(self):
         for number in (3, 4, 5, 6):
@@ -274,6 +283,12 @@ class WindowTest(WorldTest):
     def test_a_container_is_no_place(self):
         self.refuses(-9, BOX, set_window(1, 3, 1))
 
+    def test_a_window_is_kept_with_its_first_place_its_second_place_and_its_kind(self):
+        for kind in (1, 2, 3):
+            for a, b in ((1, 2), (2, 1)):
+                with self.subTest(kind=kind, a=a):
+                    self.does([0, a, b, kind], PLACES, set_window(a, b, kind), list_windows())
+
     def test_a_refused_window_replaces_nothing(self):
         world = PLACES + [set_window(1, 2, 1)]
         for call, expected in ((set_window(1, 2, 4), -1), (set_window(2, 2, 0), -5), (set_window(2, 3, 0), -9)):
@@ -295,18 +310,11 @@ class WindowTest(WorldTest):
                 self.refuses(expected, PLACES, call)
 
 
-# Where hands pass, sight passes, too: the calls 0 to 9 don't tell on which ways sight passes
-# and hands don't. So it is asked of the package's own function.
-@unittest.skipIf(importlib.util.find_spec("sightnest.sight") is None, "this package has no file sight")
 class SightTest(unittest.TestCase):
     def sees(self, v, x, *calls):
-        from sightnest.desk import answer
-        from sightnest.sight import sees
-        from sightnest.world import World
-        world = World()
-        for call in calls:
-            self.assertEqual(answer(world, call[0], call[1:])[0], 0)
-        return sees(world, v, x)
+        told = ask(*calls, can_see(v, x))
+        self.assertEqual([answer[0] for answer in told], [0] * len(told))
+        return told[-1][1] == 1
 
     def test_windows(self):
         for kind, forward, back in ((0, False, False), (1, True, True), (2, True, True), (3, True, False)):
